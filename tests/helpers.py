@@ -2,7 +2,8 @@
 
 import unittest
 
-from fewlabels.errors import BadSystem, LabelError
+from fewlabels.amounts import Amount
+from fewlabels.errors import BadSystem, BadText, LabelError
 from fewlabels.formulas import Formula, Name, Number
 from fewlabels.systems import System
 from fewlabels.units import Unit
@@ -40,6 +41,18 @@ NO_CHAINS = (
     (1, 1), (1, 1, 1), (1, None), (1, [1, 1]), (1, []), (1, {}), (1, {1: 1}), (1, "11"), (1, b"11"), (1, ""), ((), 1),
     ((1, 1), 1), (1, (1, (1,))), (1, ((1, 1),)), (1, (1, [1])), object(), Unit.base("m"),
 )
+NO_UNITS = (
+    None, True, False, 0, 1, "", "m", "1", b"m", (), ("m",), [], {}, {"m": 1}, {"m"}, object(), EqualToAll(), Unit,
+    Name("m"), Amount.plain(1),
+)
+NO_AMOUNTS = (
+    None, True, False, 0, 1, -1, "", "1", "1 m", b"1", (), (1, Unit({})), [], [1], {}, {1: 1}, {1}, object(),
+    EqualToAll(), Amount, Unit({}), Unit.base("m"), Name("a"), Number(1),
+)
+NO_TEXTS = (
+    None, True, False, 0, 1, -1, b"", b"m", b"1", (), ("m",), ("bases m\n",), [], ["m"], ["bases m\n"], {}, {"m": 1},
+    {"m"}, object(), EqualToAll(), str, Unit({}), Unit.base("m"), Name("a"), Number(1),
+)
 
 
 class PromiseCase(unittest.TestCase):
@@ -57,6 +70,12 @@ class PromiseCase(unittest.TestCase):
         found = self.refuses(BadSystem, call, *arguments).part
         self.assertEqual(found, part)
         self.assertIs(found.__class__, part.__class__)
+
+    def refuses_text(self, row, call, text):
+        """Check that the call raises BadText with this row."""
+        found = self.refuses(BadText, call, text).row
+        self.assertEqual(found, row)
+        self.assertIs(found.__class__, int)
 
 
 def way_system(**labels):
